@@ -1,0 +1,1 @@
+"""May it go: broken equipment, days, repairs."""
