@@ -27,7 +27,7 @@ MOST_DAYS = 1000
 
 
 def clear(state):
-    state.start()
+    state.begin()
     return [0]
 
 

@@ -30,10 +30,10 @@ class Rule:
 
 class State:
     def __init__(self):
-        self.start()
+        self.begin()
 
     # Apart from __init__, so that clear can come back to the very same.
-    def start(self):
+    def begin(self):
         self.equipment = []
         self.rules = []
         # Triples (day, item, what happened), in the order in which they happened.
