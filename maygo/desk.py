@@ -1,7 +1,11 @@
 """Reads the calls from one flat list and answers them in one flat list."""
 
+from maygo.breaking import ask_hard, ask_weak
+from maygo.going import ask_go, ask_till
+from maygo.mending import ask_least
 from maygo.refusals import FULL, OUT_OF_RANGE, within
 from maygo.rules import add_group, add_need, add_pair
+from maygo.showing import show_events, show_item, show_rule, show_totals
 from maygo.state import Item, State
 from maygo.units import extend_unit, fail_unit, repair_unit
 
@@ -14,10 +18,19 @@ CATEGORIES = 5
 DAY = 6
 FAIL = 7
 REPAIR = 8
+EXTEND = 9
+GO = 10
+TILL = 11
+LEAST = 12
+HARD = 13
+WEAK = 14
+STATE = 15
+RULE = 16
+TOTALS = 17
 
 # How many whole numbers stand behind each call's number, by that number;
 # the list of a group comes behind them.
-NUMBERS_OF_CALLS = (0, 3, 3, 5, 2, 5, 1, 1, 1, 1)
+NUMBERS_OF_CALLS = (0, 3, 3, 5, 2, 5, 1, 1, 1, 1, 1, 1, 2, 1, 1, 1, 1, 0, 1)
 
 MOST_ITEMS = 10
 MOST_UNITS = 8
@@ -79,10 +92,36 @@ def answer_happening(state, call, a):
     return extend_unit(state, a)
 
 
+def answer_asking(state, call, numbers):
+    if call == GO:
+        return ask_go(state, numbers[0])
+    if call == TILL:
+        return ask_till(state, numbers[0])
+    if call == LEAST:
+        return ask_least(state, numbers[0], numbers[1])
+    if call == HARD:
+        return ask_hard(state, numbers[0])
+    return ask_weak(state, numbers[0])
+
+
+def answer_showing(state, call, numbers):
+    if call == STATE:
+        return show_item(state, numbers[0])
+    if call == RULE:
+        return show_rule(state, numbers[0])
+    if call == TOTALS:
+        return show_totals(state)
+    return show_events(state, numbers[0])
+
+
 def answer_call(state, call, numbers, listed):
     if call <= DAY:
         return answer_telling(state, call, numbers, listed)
-    return answer_happening(state, call, numbers[0])
+    if call <= EXTEND:
+        return answer_happening(state, call, numbers[0])
+    if call <= WEAK:
+        return answer_asking(state, call, numbers)
+    return answer_showing(state, call, numbers)
 
 
 # Only slices of what is handed in are passed on: these are copies, so nothing

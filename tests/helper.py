@@ -6,6 +6,7 @@ LOWEST = -1000000000000000000
 HIGHEST = 1000000000000000000
 
 CLEAR = [0]
+TOTALS = [17]
 
 
 def item(units=1, category=0, hours=1):
@@ -44,6 +45,38 @@ def extend(a=0):
     return [9, a]
 
 
+def go(condition=0):
+    return [10, condition]
+
+
+def till(condition=0):
+    return [11, condition]
+
+
+def least(condition=0, h=0):
+    return [12, condition, h]
+
+
+def hard(condition=0):
+    return [13, condition]
+
+
+def weak(condition=0):
+    return [14, condition]
+
+
+def state(a=0):
+    return [15, a]
+
+
+def rule(number=0):
+    return [16, number]
+
+
+def log(k=0):
+    return [18, k]
+
+
 def flat(calls):
     return [number for call in calls for number in call]
 
@@ -67,6 +100,11 @@ def told(*calls):
     if len(parts) != len(calls):
         raise AssertionError("%d answers to %d calls" % (len(parts), len(calls)))
     return parts
+
+
+def reply(*calls):
+    """What the last of the calls is answered, number by number."""
+    return told(*calls)[-1]
 
 
 def firsts(*calls):

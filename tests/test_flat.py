@@ -5,19 +5,25 @@ import io
 import unittest
 
 from maygo.desk import answers
-from tests.helper import CLEAR, categories, day, extend, fail, flat, group, item, need, pair, repair
+from tests.helper import (CLEAR, TOTALS, categories, day, extend, fail, flat, go, group, hard, item, least, log, need,
+                          pair, repair, rule, state, till, weak)
 
 ALL_CALLS = [
     item(8, 1, 100), item(2, 3, 7), CLEAR, item(3, 1, 5), item(2, 2, 6),
     need(0, 2, 8), pair(0, 1, 1, 2, 0), group(1, 7, [1, 0]), group(0, 0, []),
     categories(1, 2, 3, 4, 5), day(2), fail(0), fail(0), extend(0), repair(0),
     fail(5), item(0, 0, 1), repair(1),
+    go(0), till(0), least(0, 9), hard(0), weak(0), state(0), rule(2), TOTALS, log(1),
+    go(8), till(1), state(2), rule(4), day(1), fail(0), repair(0),
 ]
 ALL_ANSWERS = [
     1, 0, 1, 1, 1, 0, 1, 0, 1, 1,
     1, 0, 1, 1, 1, 2, 1, 3,
     1, 0, 1, 2, 1, 2, 1, 1, 1, 6, 1, 2,
     1, -3, 1, -1, 1, -5,
+    3, 1, 0, 0, 2, 0, 6, 4, 0, 5, 1, 0, 2, 0, 1, 2, 1, 0, 7, 3, 2, 1, 5, 2, 2, 6, 9, 2, 0, 1, 0, 0, 7, 2, 1, 0,
+    6, 2, 2, 4, 1, 5, 4, 10, 9, 2, 0, 0, 2, 0, 2, 2, 0, 1,
+    1, -1, 2, 0, 6, 1, -3, 1, -3, 1, 3, 1, 1, 1, 2,
 ]
 
 
@@ -34,6 +40,16 @@ class Flat(unittest.TestCase):
         self.assertEqual(answers([1, 2, 1, 5, 7, 0]), [1, 0, 1, 1])
         self.assertEqual(answers([1, 2, 1, 5, 6, 4, 7, 0, 8, 0]), [1, 0, 1, 4, 1, 1, 1, 4])
         self.assertEqual(answers([1, 2, 1, 5, 6, 4, 7, 0, 9, 0]), [1, 0, 1, 4, 1, 1, 1, 10])
+
+    def test_each_asking_call_in_its_flat_form(self):
+        told_before = [1, 2, 1, 5, 2, 0, 1, 8, 7, 0]
+        given_before = [1, 0, 1, 0, 1, 1]
+        for call, given in (([10, 0], [3, 1, 0, 0]), ([11, 0], [2, 0, 3]), ([12, 0, 4], [3, 0, 5, 1]),
+                            ([13, 0], [2, 0, 1]), ([14, 0], [2, 1, 0]), ([15, 0], [7, 2, 1, 1, 5, 2, 0, 3]),
+                            ([16, 0], [7, 0, 0, 1, 0, 0, 8, 0]), ([17], [6, 0, 1, 1, 1, 5, 1]),
+                            ([18, 0], [4, 3, 0, 0, 0])):
+            self.assertEqual(answers(told_before + call), given_before + given)
+            self.assertEqual(answers(told_before + call + [6, 9]), given_before + given + [1, 9])
 
     def test_calls_one_behind_another(self):
         self.assertEqual(answers(flat(ALL_CALLS)), ALL_ANSWERS)

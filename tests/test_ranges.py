@@ -2,7 +2,8 @@
 
 import unittest
 
-from tests.helper import HIGHEST, LOWEST, categories, day, firsts, group, item, last, need, pair
+from tests.helper import (HIGHEST, LOWEST, categories, day, firsts, go, group, hard, item, last, least, log, need, pair,
+                          reply, till, weak)
 
 # What is there when a call is tried: two items of 8 units.
 READY = [item(8, 0, 1), item(8, 0, 1)]
@@ -26,6 +27,13 @@ RANGES = [
     ("d3", 0, 1000, lambda n: categories(0, 0, 0, n, 0)),
     ("lasting", 0, 1000, lambda n: categories(0, 0, 0, 0, n)),
     ("day", 1, 1000, lambda n: day(n)),
+    ("go condition", 0, 7, lambda n: go(n)),
+    ("till condition", 0, 7, lambda n: till(n)),
+    ("least condition", 0, 7, lambda n: least(n, 0)),
+    ("least h", 0, 1000, lambda n: least(0, n)),
+    ("hard condition", 0, 7, lambda n: hard(n)),
+    ("weak condition", 0, 7, lambda n: weak(n)),
+    ("log k", 0, 100000, lambda n: log(n)),
 ]
 
 
@@ -34,13 +42,13 @@ class Ranges(unittest.TestCase):
         for name, least, most, call in RANGES:
             for n in (least, least + 1, most - 1, most):
                 with self.subTest(name=name, n=n):
-                    self.assertGreaterEqual(last(*READY, call(n)), 0)
+                    self.assertGreaterEqual(reply(*READY, call(n))[0], 0)
 
     def test_beyond(self):
         for name, least, most, call in RANGES:
             for n in (least - 1, most + 1, LOWEST, HIGHEST):
                 with self.subTest(name=name, n=n):
-                    self.assertEqual(last(*READY, call(n)), -1)
+                    self.assertEqual(reply(*READY, call(n)), [-1])
 
     def test_how_many_a_group_lists(self):
         ten = [item()] * 10
